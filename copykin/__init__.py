@@ -1,0 +1,1 @@
+"""Copykin: copies of a lost work, and which were made of which."""

@@ -1,0 +1,170 @@
+"""The package's files keep to the rules of LANGUAGE.md that can be seen in their syntax."""
+
+import ast
+import builtins
+import pathlib
+import re
+import unittest
+
+ROOT = pathlib.Path(__file__).resolve().parent.parent / "copykin"
+
+OWN_OF_PYTHON = set(
+    "len range enumerate zip min max sum abs sorted reversed int str bool list tuple dict set frozenset isinstance ord"
+    " repr any all divmod Exception ValueError TypeError KeyError IndexError LookupError ZeroDivisionError"
+    " ArithmeticError OverflowError RuntimeError NotImplementedError AttributeError StopIteration".split())
+TWO_UNDERSCORES = set("__init__ __eq__ __repr__ __str__ __len__".split())
+METHODS = set(
+    "append clear copy count endswith extend find get index insert isalnum isalpha isdigit islower isspace isupper"
+    " items join keys ljust lower lstrip partition pop remove replace reverse rfind rjust rpartition rsplit rstrip"
+    " setdefault split splitlines startswith strip update upper values zfill bit_length".split())
+WORDS = re.compile(
+    r"\b(type|typing|typing_extensions|enum|Enum|IntEnum|StrEnum|Flag|IntFlag|Generic|Protocol|ABC|ABCMeta|namedtuple"
+    r"|NamedTuple|TypedDict|TYPE_CHECKING|abstractmethod)\b|dataclass|overload|contextmanager")
+OUT = (
+    ast.With, ast.Match, ast.Delete, ast.Global, ast.Nonlocal, ast.Assert, ast.Yield, ast.YieldFrom, ast.Await,
+    ast.AsyncFunctionDef, ast.AsyncFor, ast.AsyncWith, ast.SetComp, ast.DictComp, ast.GeneratorExp, ast.NamedExpr,
+    ast.Starred, ast.Div, ast.MatMult, ast.Import, ast.AnnAssign,
+)
+PLAIN_TOP = (ast.ImportFrom, ast.FunctionDef, ast.ClassDef, ast.Assign)
+
+
+def files():
+    return sorted(path for path in ROOT.rglob("*") if "__pycache__" not in path.parts)
+
+
+def trees():
+    return [(path, ast.parse(path.read_text("utf-8"))) for path in files() if path.is_file()]
+
+
+def is_docstring(node):
+    return isinstance(node, ast.Expr) and isinstance(node.value, ast.Constant) and isinstance(node.value.value, str)
+
+
+def bound(tree):
+    """The names that a file binds at its top, in their order."""
+    names = []
+    for node in tree.body:
+        if isinstance(node, ast.ImportFrom):
+            names += [alias.asname or alias.name for alias in node.names]
+        elif isinstance(node, (ast.FunctionDef, ast.ClassDef)):
+            names.append(node.name)
+        elif isinstance(node, ast.Assign):
+            names += [target.id for target in node.targets]
+    return names
+
+
+def locals_of(tree):
+    """The names of parameters and of whatever a function or comprehension gives a value."""
+    names = [node.arg for node in ast.walk(tree) if isinstance(node, ast.arg)]
+    tops = [target for node in tree.body if isinstance(node, ast.Assign) for target in node.targets]
+    return names + [node.id for node in ast.walk(tree)
+                    if isinstance(node, ast.Name) and isinstance(node.ctx, ast.Store) and node not in tops]
+
+
+class Language(unittest.TestCase):
+    def test_files(self):
+        self.assertIn(ROOT / "__init__.py", files())
+        for path in files():
+            self.assertTrue(path.is_file() and re.fullmatch(r"[a-z][a-z0-9_]*\.py|__init__\.py", path.name), path)
+            self.assertNotIn(path.stem, dir(builtins))
+
+    def test_signs_and_sizes(self):
+        for path in files():
+            text = path.read_bytes().decode("ascii")
+            self.assertTrue(all(sign == "\n" or " " <= sign <= "~" for sign in text), path)
+            rows = text.splitlines()
+            self.assertLessEqual(len(rows), 400, path)
+            self.assertLessEqual(max(len(row) for row in rows), 120, path)
+            self.assertIsNone(WORDS.search(text), path)
+
+    def test_the_top_of_each_file(self):
+        for path, tree in trees():
+            self.assertTrue(is_docstring(tree.body[0]), path)
+            for node in tree.body[1:]:
+                self.assertIsInstance(node, PLAIN_TOP, path)
+            names = bound(tree)
+            self.assertEqual(len(names), len(set(names)), path)
+
+    def test_imports(self):
+        own = {"copykin." + path.stem: set(bound(tree)) for path, tree in trees()}
+        drawn = {name: set() for name in own}
+        for path, tree in trees():
+            for node in ast.walk(tree):
+                if isinstance(node, ast.ImportFrom):
+                    self.assertEqual(node.level, 0, path)
+                    self.assertIn(node.module, own, path)
+                    drawn["copykin." + path.stem].add(node.module)
+                    for alias in node.names:
+                        self.assertIn(alias.name, own[node.module], path)
+        while drawn:
+            free = [name for name in drawn if not drawn[name] & set(drawn)]
+            self.assertTrue(free, "files draw from one another")
+            drawn = {name: drawn[name] for name in drawn if name not in free}
+
+    def test_syntax(self):
+        for path, tree in trees():
+            for node in ast.walk(tree):
+                where = (path.name, getattr(node, "lineno", 0), ast.dump(node)[:60])
+                self.assertNotIsInstance(node, OUT, where)
+                if isinstance(node, ast.Constant):
+                    self.assertNotIsInstance(node.value, (float, complex, bytes), where)
+                if isinstance(node, (ast.For, ast.While)):
+                    self.assertFalse(node.orelse, where)
+                if isinstance(node, ast.Try):
+                    self.assertFalse(node.finalbody, where)
+                if isinstance(node, ast.Assign):
+                    self.assertEqual(len(node.targets), 1, where)
+                if isinstance(node, ast.ListComp):
+                    self.assertEqual(len(node.generators), 1, where)
+                    self.assertLessEqual(len(node.generators[0].ifs), 1, where)
+                if isinstance(node, ast.Compare) and any(isinstance(op, (ast.Is, ast.IsNot)) for op in node.ops):
+                    sides = [node.left] + node.comparators
+                    self.assertTrue(any(isinstance(part, ast.Constant) and part.value in (None, True, False)
+                                        for part in sides), where)
+
+    def test_functions_and_classes(self):
+        for path, tree in trees():
+            for node in ast.walk(tree):
+                if isinstance(node, ast.FunctionDef):
+                    self.assertLessEqual(node.end_lineno - node.lineno + 1, 40, node.name)
+                    self.assertFalse(node.decorator_list or node.args.vararg or node.args.kwarg, node.name)
+                    self.assertFalse(node.args.kwonlyargs or node.args.posonlyargs, node.name)
+                if isinstance(node, ast.ClassDef):
+                    self.assertFalse(node.decorator_list or node.keywords or len(node.bases) > 1, node.name)
+                    for part in node.body:
+                        self.assertTrue(isinstance(part, ast.FunctionDef) or is_docstring(part), node.name)
+
+    def test_names(self):
+        for path, tree in trees():
+            tops = [name for name in bound(tree)]
+            given = locals_of(tree)
+            own = set(tops) | set(given)
+            for name in own:
+                self.assertRegex(name, r"\A[A-Za-z][A-Za-z0-9_]*\Z", path)
+                self.assertFalse(hasattr(builtins, name), (path.name, name))
+            imports_and_classes = [name for node in tree.body if isinstance(node, (ast.ImportFrom, ast.ClassDef))
+                                   for name in bound(ast.Module([node], []))]
+            self.assertFalse(set(given) & set(imports_and_classes), path)
+            for node in ast.walk(tree):
+                if isinstance(node, ast.Name) and node.id not in own:
+                    self.assertIn(node.id, OWN_OF_PYTHON, (path.name, node.lineno))
+
+    def test_attributes(self):
+        own = set(TWO_UNDERSCORES)
+        for path, tree in trees():
+            for node in ast.walk(tree):
+                if isinstance(node, ast.ClassDef):
+                    methods = [part.name for part in node.body if isinstance(part, ast.FunctionDef)]
+                    self.assertEqual(len(methods), len(set(methods)), node.name)
+                    own |= set(methods)
+                if isinstance(node, ast.Attribute) and isinstance(node.ctx, ast.Store):
+                    own.add(node.attr)
+        for path, tree in trees():
+            for node in ast.walk(tree):
+                if isinstance(node, ast.Attribute):
+                    self.assertIn(node.attr, METHODS | own, (path.name, node.lineno))
+                    self.assertFalse(node.attr.startswith("_") and node.attr not in TWO_UNDERSCORES, path.name)
+
+
+if __name__ == "__main__":
+    unittest.main()
