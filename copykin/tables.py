@@ -1,6 +1,6 @@
 """Copies and tables: what they are, and what stands at their places."""
 
-from copykin.errors import NoPlace, NoReading, NoTable
+from copykin.errors import NoName, NoPlace, NoReading, NoTable
 
 LETTERS = "abcdefghijklmnopqrstuvwxyz"
 LONGEST_NAME = 8
@@ -61,6 +61,13 @@ def need_place(table, place):
         raise NoPlace("this is no place of the table")
 
 
+def need_name(table, name):
+    need_table(table)
+    # is_name goes first: a thing of any kind may fail to be compared.
+    if not is_name(name) or not any([name == copy[0] for copy in table]):
+        raise NoName("this is no name of a copy of the table")
+
+
 def need_reading(reading):
     if not is_reading(reading):
         raise NoReading("this is no reading")
@@ -81,11 +88,15 @@ def place_count(table):
     return len(table[0][1])
 
 
+def torn_at(copies, place):
+    found = [readings[place] for name, readings in copies]
+    return 0 in found and 1 in found
+
+
 def is_torn(table, place):
     """Whether the copies do not all read alike at this place."""
     need_place(table, place)
-    found = [readings[place] for name, readings in table]
-    return 0 in found and 1 in found
+    return torn_at(table, place)
 
 
 def side(table, place, reading):

@@ -17,6 +17,7 @@ METHODS = set(
     "append clear copy count endswith extend find get index insert isalnum isalpha isdigit islower isspace isupper"
     " items join keys ljust lower lstrip partition pop remove replace reverse rfind rjust rpartition rsplit rstrip"
     " setdefault split splitlines startswith strip update upper values zfill bit_length".split())
+CHANGES = set("append clear extend insert pop remove reverse setdefault update".split())
 WORDS = re.compile(
     r"\b(type|typing|typing_extensions|enum|Enum|IntEnum|StrEnum|Flag|IntFlag|Generic|Protocol|ABC|ABCMeta|namedtuple"
     r"|NamedTuple|TypedDict|TYPE_CHECKING|abstractmethod)\b|dataclass|overload|contextmanager")
@@ -25,6 +26,10 @@ OUT = (
     ast.AsyncFunctionDef, ast.AsyncFor, ast.AsyncWith, ast.SetComp, ast.DictComp, ast.GeneratorExp, ast.NamedExpr,
     ast.Starred, ast.Div, ast.MatMult, ast.Import, ast.AnnAssign,
 )
+KEYWORDS = {
+    "sorted": {"key", "reverse"}, "min": {"key", "default"}, "max": {"key", "default"}, "sum": {"start"},
+    "enumerate": {"start"}, "zip": {"strict"},
+}
 PLAIN_TOP = (ast.ImportFrom, ast.FunctionDef, ast.ClassDef, ast.Assign)
 
 
@@ -148,6 +153,38 @@ class Language(unittest.TestCase):
             for node in ast.walk(tree):
                 if isinstance(node, ast.Name) and node.id not in own:
                     self.assertIn(node.id, OWN_OF_PYTHON, (path.name, node.lineno))
+
+    def test_keywords(self):
+        classes = {node.name for path, tree in trees() for node in tree.body if isinstance(node, ast.ClassDef)}
+        for path, tree in trees():
+            for node in ast.walk(tree):
+                if not isinstance(node, ast.Call):
+                    continue
+                name = node.func.attr if isinstance(node.func, ast.Attribute) else getattr(node.func, "id", "")
+                if name in OWN_OF_PYTHON | METHODS | classes:
+                    given = {keyword.arg for keyword in node.keywords}
+                    self.assertLessEqual(given, KEYWORDS.get(name, set()), (path.name, node.lineno))
+
+    def test_texts(self):
+        for path, tree in trees():
+            for node in ast.walk(tree):
+                if isinstance(node, ast.Constant) and isinstance(node.value, str):
+                    self.assertNotIn("%", node.value, (path.name, node.lineno))
+                if isinstance(node, ast.FormattedValue):
+                    self.assertIsInstance(node.value, ast.Name, (path.name, node.lineno))
+                    self.assertIsNone(node.format_spec, (path.name, node.lineno))
+
+    def test_nothing_that_is_walked_is_changed(self):
+        for path, tree in trees():
+            for loop in ast.walk(tree):
+                if not isinstance(loop, ast.For):
+                    continue
+                walked = {node.id for node in ast.walk(loop.iter) if isinstance(node, ast.Name)}
+                for node in [node for part in loop.body for node in ast.walk(part)]:
+                    if isinstance(node, ast.Subscript) and isinstance(node.ctx, ast.Store):
+                        self.assertNotIn(getattr(node.value, "id", None), walked, (path.name, node.lineno))
+                    if isinstance(node, ast.Attribute) and node.attr in CHANGES:
+                        self.assertNotIn(getattr(node.value, "id", None), walked, (path.name, node.lineno))
 
     def test_attributes(self):
         own = set(TWO_UNDERSCORES)

@@ -32,6 +32,7 @@ def others(*kinds):
 
 
 NO_PLACES_OF_ANY = others(int) + [-1, -2, -60, 60, 61, 10 ** 5000, -10 ** 5000]
+NO_NAMES = others(str) + ["", "A", "aB", "a1", " a", "a ", "a\n", "-", "abcdefghi", "a" * 30000]
 NO_READINGS = others(int) + [2, 3, -1, -2, 10, 10 ** 5000, -10 ** 5000]
 
 
@@ -89,3 +90,92 @@ def frozen(thing):
     if type(thing) is dict:
         return ("dict",) + tuple((key, frozen(value)) for key, value in thing.items())
     return thing
+
+
+def figures(row):
+    """Readings, written as figures."""
+    return tuple(int(figure) for figure in row)
+
+
+def named(*rows):
+    """A table of these readings, written as figures, named a, b, c .. in their order."""
+    return [(chr(ord("a") + number), figures(row)) for number, row in enumerate(rows)]
+
+
+def tabled(nodes):
+    """A table with a copy of each of these readings."""
+    return [(letters(number), node) for number, node in enumerate(nodes)]
+
+
+def grown_at_random(chance, copies, places):
+    """A table without a clash: each place changes at one step of a tree that is grown at random."""
+    nodes = [tuple(chance.randrange(2) for place in range(places))]
+    waiting = list(range(places))
+    chance.shuffle(waiting)
+    while waiting:
+        ahead = list(chance.choice(nodes))
+        for place in [waiting.pop() for step in range(min(len(waiting), chance.randrange(1, 4)))]:
+            ahead[place] = 1 - ahead[place]
+        nodes.append(tuple(ahead))
+    return shuffled(chance, [(letters(number), chance.choice(nodes)) for number in range(copies)])
+
+
+def at_random(chance, copies, places):
+    """A table whose copies read anything; of several copies and places it mostly clashes."""
+    return shuffled(chance, [(letters(number), tuple(chance.randrange(2) for place in range(places)))
+                             for number in range(copies)])
+
+
+def shuffled(chance, things):
+    return chance.sample(things, len(things))
+
+
+# Tables without a clash, and the trees that they have, as figures.
+TREES = {
+    "no copies": ([], [], []),
+    "one copy": (["011"], ["011"], []),
+    "one copy without places": ([""], [""], []),
+    "many copies without places": (["", "", ""], [""], []),
+    "copies that read alike": (["01", "01", "01"], ["01"], []),
+    "two copies": (["0", "1"], ["0", "1"], [("0", "1", (0,))]),
+    "two copies twice each": (["1", "0", "1", "0"], ["0", "1"], [("0", "1", (0,))]),
+    "a plain place amid": (["010", "111"], ["010", "111"], [("010", "111", (0, 2))]),
+    "several places on one branch": (["0000", "1101"], ["0000", "1101"], [("0000", "1101", (0, 1, 3))]),
+    "a copy amid two": (["00", "11", "01"], ["00", "01", "11"], [("00", "01", (1,)), ("01", "11", (0,))]),
+    "a lost copy with three branches": (
+        ["100", "010", "001"], ["000", "001", "010", "100"],
+        [("000", "001", (2,)), ("000", "010", (1,)), ("000", "100", (0,))]),
+    "a lost copy that is the greatest": (
+        ["011", "101", "110"], ["011", "101", "110", "111"],
+        [("011", "111", (0,)), ("101", "111", (1,)), ("110", "111", (2,))]),
+    "a lost copy with four branches": (
+        ["1000", "0100", "0010", "0001"], ["0000", "0001", "0010", "0100", "1000"],
+        [("0000", "0001", (3,)), ("0000", "0010", (2,)), ("0000", "0100", (1,)), ("0000", "1000", (0,))]),
+    "a copy in the place of a lost one": (
+        ["100", "000", "010", "001"], ["000", "001", "010", "100"],
+        [("000", "001", (2,)), ("000", "010", (1,)), ("000", "100", (0,))]),
+    "two lost copies, a plain place": (
+        ["100000", "010000", "001001", "000101"], ["000000", "000001", "000101", "001001", "010000", "100000"],
+        [("000000", "000001", (5,)), ("000000", "010000", (1,)), ("000000", "100000", (0,)),
+         ("000001", "000101", (3,)), ("000001", "001001", (2,))]),
+}
+
+
+def told_trees():
+    """Of each table of TREES: what it is, the table and its tree."""
+    return [(words, named(*rows),
+             ([figures(node) for node in nodes],
+              [(figures(one), figures(other), places) for one, other, places in branches]))
+            for words, (rows, nodes, branches) in TREES.items()]
+
+
+# Tables with a clash, and the clash that each has.
+CLASHES = [
+    (named("00", "01", "10", "11"), (0, 1, ("a", "b", "c", "d"))),
+    (named("11", "10", "01", "00"), (0, 1, ("d", "c", "b", "a"))),
+    (named("11", "01", "01", "00", "00", "10", "10"), (0, 1, ("d", "b", "f", "a"))),
+    (named("0001", "0100", "1001", "1101"), (0, 1, ("a", "b", "c", "d"))),
+    (named("000", "001", "110", "111"), (0, 2, ("a", "b", "c", "d"))),
+    (named("000", "101", "010", "111"), (0, 1, ("a", "c", "b", "d"))),
+    (named("000", "010", "001", "111", "011"), (1, 2, ("a", "c", "b", "d"))),
+]
