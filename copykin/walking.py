@@ -1,6 +1,7 @@
 """The walk of what somebody hands in as the tree of a table."""
 
 from copykin.tables import are_readings, is_whole, place_count, table_list, torn_at
+from copykin.ways import leads_one_way, neighbours
 
 
 def is_node(thing, count):
@@ -69,39 +70,6 @@ def has_places(copies, count, branches):
     return all([standing[place] == (1 if torn_at(copies, place) else 0) for place in range(count)])
 
 
-def neighbours(nodes, branches):
-    """A dict from each node to the list of those that a branch leads to."""
-    beside = {}
-    for node in nodes:
-        beside[node] = []
-    for one, other, places in branches:
-        beside[one].append(other)
-        beside[other].append(one)
-    return beside
-
-
-def come_to(beside):
-    """How many nodes can be come to from the first one, itself among them."""
-    start = list(beside)[0]
-    seen = {start: True}
-    waiting = [start]
-    while len(waiting) > 0:
-        node = waiting.pop()
-        for near in beside[node]:
-            if near not in seen:
-                seen[near] = True
-                waiting.append(near)
-    return len(seen)
-
-
-def has_ways(beside, branches):
-    """Whether from each node to each other one just one way leads."""
-    if len(beside) == 0:
-        return True
-    # Nodes that all hang together have two ways somewhere just where there is a branch too many.
-    return come_to(beside) == len(beside) and len(branches) == len(beside) - 1
-
-
 def has_lost(copies, beside):
     """Whether each node that is no copy's readings has three branches at least."""
     known = marked([readings for name, readings in copies])
@@ -124,7 +92,8 @@ def walked(table, thing):
         return "branches"
     if not has_places(copies, count, branches):
         return "places"
-    beside = neighbours(nodes, branches)
-    if not has_ways(beside, branches):
+    pairs = [(one, other) for one, other, places in branches]
+    beside = neighbours(nodes, pairs)
+    if not leads_one_way(beside, pairs):
         return "ways"
     return None if has_lost(copies, beside) else "lost"

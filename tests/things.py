@@ -1,5 +1,7 @@
 """What several test files hand in: things of every kind, and tables."""
 
+import itertools
+
 
 class Thing:
     """An object that can be neither compared nor shown nor hashed."""
@@ -179,3 +181,122 @@ CLASHES = [
     (named("000", "101", "010", "111"), (0, 1, ("a", "c", "b", "d"))),
     (named("000", "010", "001", "111", "011"), (1, 2, ("a", "c", "b", "d"))),
 ]
+
+
+def a_way(branches):
+    """A frame of so many branches, one behind the other."""
+    return [(letters(number), letters(number + 1)) for number in range(branches)]
+
+
+def a_star(branches):
+    """A frame of so many branches, all at one name."""
+    return [(letters(branches), letters(number)) for number in range(branches)]
+
+
+def a_comb(branches):
+    """A frame of so many branches: a way with a name hanging on each of its names."""
+    half = branches // 2
+    return a_way(half) + [(letters(number), letters(300 + number)) for number in range(branches - half)]
+
+
+def a_frame_at_random(chance, branches):
+    """A frame of so many branches, in any order and either way about."""
+    names = shuffled(chance, [letters(number) for number in range(branches + 1)])
+    pairs = [(names[number], names[chance.randrange(number)]) for number in range(1, len(names))]
+    return shuffled(chance, [pair[::chance.choice([1, -1])] for pair in pairs])
+
+
+def no_frames():
+    """Tuples (frame, alone) that are none, of each sort that the document tells, and of other kinds."""
+    wrong = [(thing, alone) for thing in others(list) for alone in [None, "a"]]
+    wrong += [(a_way(81), None), (a_star(81), None), (a_comb(81), None), (a_way(300), None), (a_way(81), "a")]
+    wrong += [([], name) for name in NO_NAMES]
+    for good in [[("a", "b")], a_way(3), a_star(80)]:
+        wrong += [(good, alone) for alone in others() + ["z", "aa", "a", "b"] if alone is not None]
+        wrong += [(good + [good[0]], None), (good + [good[0][::-1]], None), ([good[-1]] + good, None)]
+        wrong += [(good + [("z", "z")], None), (good + [(good[0][0], good[0][0])], None), (good + [("y", "z")], None)]
+        wrong += [([("y", "z")] + good, None), ([list(good[0])] + good[1:], None)]
+        wrong += [(tuple(good), None), (dict(good), None)]
+        wrong += [(good + [thing], None) for thing in others()] + [([thing] + good, None) for thing in others()]
+        wrong += [(good + [("a", name)], None) for name in NO_NAMES]
+        wrong += [([(name, good[0][0])] + good, None) for name in NO_NAMES]
+    wrong += [([("a", "a")], None), ([("a", "a")], "a"), ([("a", "b"), ("b", "a")], None), ([("a", "b")] * 2, None)]
+    wrong += [([("a",)], None), ([("a", "b", "c")], None), ([()], None), ([("a", "b", ())], None), (["ab"], None)]
+    wrong += [([("a", "b"), ("b", "c"), ("c", "a")], None), ([("a", "b"), ("c", "d")], None), ([[("a", "b")]], None)]
+    # As many branches as a frame of so many names would have: a ring or a branch too many, and a part that lies apart.
+    wrong += [([("a", "b"), ("b", "c"), ("c", "a"), ("d", "e")], None), ([("a", "b"), ("c", "d"), ("d", "c")], None)]
+    wrong += [([("a", "b"), ("c", "c"), ("d", "e"), ("a", "e")], None), ([("a", "b"), ("b", "a"), ("c", "d")], None)]
+    wrong += [([("a", "b"), ("a", "b"), ("c", "d")], None), ([("a", "a"), ("b", "c")], None)]
+    wrong += [(a_way(40) + [(letters(40), letters(0))], None), (a_way(79) + [(letters(3), letters(50))], None)]
+    return wrong
+
+
+def no_tellings(count):
+    """What are no tellings of a table with so many places, one at least."""
+    wrong = others(list)
+    wrong += [endless(), [Thing()], [None], [0], [True], ["00"], [[]], [{}], [()], [(0,)], [(0, 0, 0)], [(0, 1, None)]]
+    wrong += [[[0, 0]], [(0, 0), [0, 1]], ((0, 0),), {0: 0}, {(0, 0): True}, [((0, 0),)], [((0,), 0)], [(0, (0,))]]
+    wrong += [[(0, 0), (0, 0)], [(0, 0), (0, 1)], [(0, 1), (0, 0)], [(count - 1, 1)] * 2, [(0, 0)] * 61]
+    wrong += [[(place, 0)] for place in [count, count + 1, -1, -count]]
+    wrong += [[(part, 0)] for part in NO_PLACES_OF_ANY] + [[(0, part)] for part in NO_READINGS]
+    if count > 1:
+        wrong += [[(1, 0), (part, 0)] for part in NO_PLACES_OF_ANY] + [[(1, 0), (0, part)] for part in NO_READINGS]
+        wrong += [[(0, 0), (1, 0), (0, 0)], [(0, 0), (1, 0), (0, 1)], [(1, 1), (1, 1)], [(1, 0), (0, 0), (1, 1)]]
+        wrong += [[(0, 0), thing] for thing in others()] + [[thing, (0, 0)] for thing in others()]
+    return wrong
+
+
+def tellings_at_random(chance, count, told):
+    """So many tellings, of places below the count, or of all where there are less."""
+    places = shuffled(chance, list(range(count)))[:told]
+    return [(place, chance.randrange(2)) for place in places]
+
+
+def tellings_of(chance, node, told):
+    """So many tellings that this node bears."""
+    places = shuffled(chance, list(range(len(node))))[:told]
+    return [(place, node[place]) for place in places]
+
+
+def neighbours_of(branches, node, without=None):
+    """The nodes next to this one, not by the branch that is left out."""
+    ends = [branch[:2] for branch in branches if branch != without and node in branch[:2]]
+    return [other for pair in ends for other in pair if other != node]
+
+
+def way_from(branches, start, end, without=None):
+    """The nodes on the way from one to another, both among them; None where there is no way without that branch."""
+    ways = [[start]]
+    while ways:
+        way = ways.pop()
+        if way[-1] == end:
+            return way
+        ways += [way + [node] for node in neighbours_of(branches, way[-1], without) if node not in way]
+    return None
+
+
+def spots(told, tellings):
+    """All spots of a tree where the first copy may stand: tuples (readings, branch), branch None at a node."""
+    nodes, branches = told
+    good = [node for node in nodes if all(node[place] == elder for place, elder in tellings)]
+    found = [(node, None) for node in good]
+    fixed = [place for place, elder in tellings]
+    for branch in branches:
+        free = [place for place in branch[2] if place not in fixed]
+        for node in branch[:2]:
+            if node in good:
+                for turns in itertools.product([False, True], repeat=len(free)):
+                    turned = [place for place, turn in zip(free, turns) if turn]
+                    spot = tuple(1 - part if place in turned else part for place, part in enumerate(node))
+                    if spot not in nodes:
+                        found.append((spot, branch))
+    return found
+
+
+def nodes_on_the_way(told, spot, end):
+    """The nodes from a spot to a node, this one among them, by walking along the branches."""
+    readings, branch = spot
+    if branch is None:
+        return way_from(told[1], readings, end)
+    ways = [way_from(told[1], start, end, branch) for start in branch[:2]]
+    return [way for way in ways if way is not None][0]
