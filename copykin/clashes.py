@@ -1,5 +1,6 @@
 """Two places, and four copies that read all four ways there."""
 
+from copykin.errors import Clash
 from copykin.tables import need_place, place_count, table_list
 
 KINDS = ((0, 0), (0, 1), (1, 0), (1, 1))
@@ -32,3 +33,10 @@ def clash(table):
             if names is not None:
                 return (one, other, names)
     return None
+
+
+def refuse_clash(table):
+    """Refuses a table that has a clash, with its fields."""
+    found = clash(table)
+    if found is not None:
+        raise Clash(found[0], found[1], found[2])

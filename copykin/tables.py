@@ -1,6 +1,6 @@
 """Copies and tables: what they are, and what stands at their places."""
 
-from copykin.errors import NoName, NoPlace, NoReading, NoTable
+from copykin.errors import NoName, NoPlace, NoReading, NoTable, Twice
 
 LETTERS = "abcdefghijklmnopqrstuvwxyz"
 LONGEST_NAME = 8
@@ -79,6 +79,22 @@ def table_list(table):
     ordered = sorted(table, key=lambda copy: copy[0])
     # By way of a list, as tuple(readings) would give back the very tuple that was handed in.
     return [(name, tuple(list(readings))) for name, readings in ordered]
+
+
+def with_copy(table, name, readings):
+    """A new table, this copy behind the others, or Twice, NoTable."""
+    if any([name == copy[0] for copy in table]):
+        raise Twice("a copy has this name already")
+    # By way of a list, as in table_list, so that nothing that was handed in is kept.
+    behind = table + [(name, tuple(list(readings)))]
+    need_table(behind)
+    return behind
+
+
+def without_copy(table, name):
+    """A new table, the copy of this name left out, or NoName."""
+    need_name(table, name)
+    return [copy for copy in table if copy[0] != name]
 
 
 def place_count(table):

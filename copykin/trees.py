@@ -1,7 +1,6 @@
 """The tree of a table without a clash."""
 
-from copykin.clashes import clash
-from copykin.errors import Clash
+from copykin.clashes import refuse_clash
 from copykin.tables import need_name, table_list
 
 
@@ -44,9 +43,7 @@ def grown(copies):
 def tree(table):
     """The one tree of the table, (nodes, branches), or Clash."""
     copies = table_list(table)
-    found = clash(copies)
-    if found is not None:
-        raise Clash(found[0], found[1], found[2])
+    refuse_clash(copies)
     if len(copies) == 0:
         return ([], [])
     return grown(copies)

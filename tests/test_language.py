@@ -30,6 +30,15 @@ KEYWORDS = {
     "sorted": {"key", "reverse"}, "min": {"key", "default"}, "max": {"key", "default"}, "sum": {"start"},
     "enumerate": {"start"}, "zip": {"strict"},
 }
+WALKED = set("zip enumerate reversed range".split())
+VIEWS = set("items keys values".split())
+WALKERS = set("list tuple dict sorted sum any all enumerate zip min max".split())
+NO_NAMES = set(
+    "register mro elements open input version_info with_traceback add_note attrgetter breakpoint builtins compile"
+    " copyright credits delattr dir eval exec exit gc getattr globals hasattr help id importlib license locals"
+    " methodcaller os quit setattr super type vars sys __name__".split())
+NO_VALUES = set(
+    "items keys values pop update append clear extend insert remove reverse setdefault sort args encode format".split())
 PLAIN_TOP = (ast.ImportFrom, ast.FunctionDef, ast.ClassDef, ast.Assign)
 
 
@@ -39,6 +48,18 @@ def files():
 
 def trees():
     return [(path, ast.parse(path.read_text("utf-8"))) for path in files() if path.is_file()]
+
+
+def called(node):
+    """The name of Python's own or of a method that is called here, or a text without signs."""
+    if not isinstance(node, ast.Call):
+        return ""
+    return node.func.attr if isinstance(node.func, ast.Attribute) else getattr(node.func, "id", "")
+
+
+def around(tree):
+    """Each node with the one that it stands in."""
+    return [(node, part) for node in ast.walk(tree) for part in ast.iter_child_nodes(node)]
 
 
 def is_docstring(node):
@@ -185,6 +206,67 @@ class Language(unittest.TestCase):
                         self.assertNotIn(getattr(node.value, "id", None), walked, (path.name, node.lineno))
                     if isinstance(node, ast.Attribute) and node.attr in CHANGES:
                         self.assertNotIn(getattr(node.value, "id", None), walked, (path.name, node.lineno))
+
+    def test_what_is_walked_at_once(self):
+        for path, tree in trees():
+            for ahead, node in around(tree):
+                method = isinstance(getattr(node, "func", None), ast.Attribute)
+                if called(node) not in (VIEWS if method else WALKED):
+                    continue
+                walked = isinstance(ahead, (ast.For, ast.comprehension)) and ahead.iter is node
+                walked |= called(ahead) in WALKERS and node in ahead.args
+                self.assertTrue(walked, (path.name, node.lineno))
+
+    def test_sets(self):
+        for path, tree in trees():
+            for ahead, node in around(tree):
+                self.assertNotIsInstance(node, ast.Set, path.name)
+                if called(node) in ("set", "frozenset"):
+                    good = called(ahead) in ("sorted", "len") and not ahead.keywords
+                    good |= isinstance(ahead, ast.Compare) and isinstance(ahead.ops[0], (ast.In, ast.NotIn))
+                    self.assertTrue(good, (path.name, node.lineno))
+
+    def test_nothing_is_kept_at_the_top(self):
+        for path, tree in trees():
+            kept = [node.targets[0].id for node in tree.body
+                    if isinstance(node, ast.Assign) and isinstance(node.value, (ast.List, ast.Dict))]
+            for node in [node for node in tree.body if isinstance(node, ast.Assign)]:
+                inner = [part for part in ast.walk(node.value) if part is not node.value]
+                self.assertFalse([part for part in inner if isinstance(part, (ast.List, ast.Dict, ast.Call))], path)
+            for ahead, node in around(tree):
+                if isinstance(node, ast.Name) and isinstance(node.ctx, ast.Load) and node.id in kept:
+                    read = isinstance(ahead, ast.Subscript) and isinstance(ahead.ctx, ast.Load)
+                    read |= isinstance(ahead, (ast.Compare, ast.For, ast.comprehension))
+                    read |= called(ahead) in ("len", "list", "dict", "sorted")
+                    read |= isinstance(ahead, ast.Attribute) and ahead.attr in ("get", "items", "keys", "values")
+                    self.assertTrue(read, (path.name, node.lineno))
+
+    def test_names_that_are_not_used(self):
+        for path, tree in trees():
+            for node in ast.walk(tree):
+                name = getattr(node, "id", getattr(node, "attr", getattr(node, "arg", getattr(node, "name", None))))
+                self.assertNotIn(name, NO_NAMES, path.name)
+
+    def test_methods_and_values(self):
+        methods = set()
+        values = set()
+        for path, tree in trees():
+            for node in ast.walk(tree):
+                if isinstance(node, ast.ClassDef):
+                    methods |= {part.name for part in node.body if isinstance(part, ast.FunctionDef)}
+                if isinstance(node, ast.Attribute) and isinstance(node.ctx, ast.Store):
+                    self.assertEqual(getattr(node.value, "id", ""), "self", (path.name, node.lineno))
+                    values.add(node.attr)
+        self.assertFalse(methods & values)
+        self.assertFalse(values & NO_VALUES)
+        of_python = {name for kind in (str, int, list, dict, set, bytes) for name in dir(kind)}
+        self.assertFalse((methods - TWO_UNDERSCORES - METHODS - {"add", "discard"}) & of_python)
+
+    def test_raised_on_the_spot(self):
+        for path, tree in trees():
+            for node in ast.walk(tree):
+                if isinstance(node, ast.Raise):
+                    self.assertIsInstance(node.exc, ast.Call, (path.name, node.lineno))
 
     def test_attributes(self):
         own = set(TWO_UNDERSCORES)

@@ -86,11 +86,13 @@ def no_tables():
 
 
 def frozen(thing):
-    """A value that stays as it is: what a list or dict held, down to what can't be changed."""
+    """A value that stays as it is: what a list, tuple or dict held, down to what can't be changed."""
     if type(thing) is list:
         return ("list",) + tuple(frozen(part) for part in thing)
     if type(thing) is dict:
         return ("dict",) + tuple((key, frozen(value)) for key, value in thing.items())
+    if type(thing) is tuple:
+        return tuple(frozen(part) for part in thing)
     return thing
 
 
